@@ -1,0 +1,1 @@
+"""Firstpowers: tables raised until all is above nought."""

@@ -1,0 +1,178 @@
+"""What the tests have in common: strict asking, things that are none, and tables to try."""
+
+import copy
+import itertools
+import signal
+import unittest
+
+SECONDS_A_TEST = 300
+
+
+def alike(one, other):
+    """Whether two things are the same in kind, too: True is no 1, a list no tuple."""
+    if type(one) is not type(other):
+        return False
+    if isinstance(one, (list, tuple)):
+        return len(one) == len(other) and all(map(alike, one, other))
+    if isinstance(one, dict):
+        return alike(list(one.items()), list(other.items()))
+    return one == other
+
+
+def too_long(signum, frame):
+    raise AssertionError("the answer takes too long")
+
+
+class Case(unittest.TestCase):
+    """A test that asks strictly, and in which an answer that never comes is a failure."""
+
+    def setUp(self):
+        signal.signal(signal.SIGALRM, too_long)
+        signal.alarm(SECONDS_A_TEST)
+
+    def tearDown(self):
+        signal.alarm(0)
+
+    def ask(self, deed, *things, **named):
+        held = copy.deepcopy((things, named))
+        try:
+            return deed(*things, **named)
+        finally:
+            if not alike(held, (things, named)):
+                self.fail(f"{deed.__name__} changed what was handed in")
+
+    def tells(self, wanted, deed, *things, **named):
+        """The answer is as wanted, and so again."""
+        for again in range(2):
+            answer = self.ask(deed, *things, **named)
+            if not alike(wanted, answer):
+                self.fail(f"{deed.__name__}{things}{named or ''}: {answer!r}, not {wanted!r}")
+
+    def refuses(self, kind, deed, *things, **named):
+        """The refusal is of this very class, and so again."""
+        for again in range(2):
+            try:
+                answer = self.ask(deed, *things, **named)
+            except ValueError as refusal:
+                if type(refusal) is not kind:
+                    self.fail(f"{deed.__name__}{things}{named or ''}: {type(refusal)}, not {kind}")
+            else:
+                self.fail(f"{deed.__name__}{things}{named or ''}: {answer!r}, not {kind}")
+
+
+def deep(bottom, many, wrap):
+    for at in range(many):
+        bottom = wrap(bottom)
+    return bottom
+
+
+def whatever():
+    """Things of every kind that may be handed in, none of them a table."""
+    return [
+        None, True, False, 0, 1, -1, 2, 7, 10 ** 31 - 1, 1 - 10 ** 31,
+        "", " ", "0", "1", "~", "table", "0 1/1 1",
+        [], {}, [0], [None], {0: 0}, {"0": [1]}, {(0,): (0,)},
+        ["0"], [()], [[]], [[0]], [(0,)], [((0,),)], {0: (0,)}, {0: {0: 0}},
+        deep(0, 10, lambda thing: (thing,)), deep(0, 10, lambda thing: [thing]),
+        deep(0, 10, lambda thing: {"a": thing}), deep(None, 9, lambda thing: (thing, [thing])),
+    ]
+
+
+def in_tuples():
+    """Tuples that are no tables, no walks, no sets and no orders, whatever the table."""
+    return [
+        (None,), (True,), (False,), ("",), ("0",), ([],), ([0],), ({},), ((),), (0, None),
+        (0, "1"), (0, [1]), (0, True), (False, True), (True, False), (0, {}), (0, (1,)),
+        (10 ** 30,), (0, 10 ** 30), (-1,), (0, -1), (0, 1, -1), (7, 8), ((0, 1),),
+    ]
+
+
+def no_tables():
+    """Things that are no tables, of whatever kind."""
+    near = [
+        (), ((),), ((), ()), (0,), (0, 0), ((0,), 0), (0, (0,)), ((0,), (0,)), ((0, 1),), ((0, 1, 2),),
+        ((0, 1), (1,)), ((0,), (1, 0)), ((0, 1), (1, 0, 0)), ((0, 1), (1, 0), (0, 1)), ((0, 1, 0), (1, 0, 1)),
+        [[0, 1], [1, 1]], [(0, 1), (1, 1)], ([0, 1], [1, 1]), ((0, 1), [1, 1]), ([0, 1], (1, 1)), ([1],), [(1,)],
+        ((True,),), ((False,),), ((1, True), (1, 1)), ((1, 1), (1, False)), ((None,),), ((0, None), (1, 1)),
+        (("0",),), (("0", "1"), ("1", "1")), ("0",), ("01", "11"), ((0, "1"), (1, 1)), (("",),),
+        ((-1,),), ((0, 1), (1, -1)), ((-1, 1), (1, 1)), ((-10 ** 30,),), ((1, 1), (-2, 1)),
+        (((0,),),), (((),),), ((0, (1,)), (1, 1)), (([],),), (({},),), ((0, {}), (1, 1)), ({0: 0},),
+        ({0: 0, 1: 1}, {0: 0, 1: 1}), {0: (0,)}, {0: (0, 1), 1: (1, 1)}, ((0, 1), None), (None, (0, 1)), ((0, 1), True),
+    ]
+    sizes = [square(size, 1) for size in (7, 8, 40)] + [
+        tuple([(1,) * 7] * 6), tuple([(1,) * 6] * 7), tuple([(1,) * 5] * 6), tuple([(1,) * 6] * 5),
+        tuple([(1,) * 6] * 5 + [(1,) * 5]), tuple([(1,) * 6] * 5 + [(1,) * 7]), tuple([(1,) * 6] * 5 + [[1] * 6]),
+        tuple([(1,) * 6] * 5 + [(1,) * 5 + (True,)]), tuple([(1,) * 6] * 5 + [(1,) * 5 + (-1,)]),
+    ]
+    return whatever() + near + sizes
+
+
+def no_places(size):
+    """Things that are no places of a table of this size."""
+    bounds = [size, size + 1, -1, -size, 10 ** 30, -10 ** 30]
+    return bounds + [None, True, False, "", "0", "1", [], (), {}, [0], (0,), {0: 0}, ((0,),)]
+
+
+def no_numbers(least, most):
+    """Things that are no whole numbers from least to most."""
+    bounds = [least - 1, least - 2, most + 1, most + 2, most + 10 ** 30, -10 ** 30]
+    return bounds + [None, True, False, "", "0", "1", [], (), {}, [1], (1,), {1: 1}, ((1,),)]
+
+
+def no_sets(size):
+    """Things that are no rising tuples of places of a table of this size."""
+    every = tuple(range(size))
+    bounds = [(size,), (0, size), every + (size,), (-1,) + every, (-size,), (10 ** 30,)]
+    twice = [(0, 0), every + (size - 1,), (0,) + every, every * 2]
+    falling = [every[::-1], every[1:] + every[:1]] if size > 1 else []
+    return whatever() + in_tuples() + bounds + twice + falling + [list(every), [every], (every,)]
+
+
+def no_orders(size):
+    """Things that are no tuples of all places of a table of this size, each once."""
+    every = tuple(range(size))
+    lacking = [(), every[1:], every[:-1]]
+    twice = [every + (0,), every + every, every[:-1] + (0, 0), (0,) * (size + 1)]
+    beyond = [every[1:] + (size,), every[:-1] + (size,), every[:-1] + (-1,), every + (size,), (-1,) + every[1:]]
+    if size > 1:
+        twice += [every[:-1] + (0,), (size - 1,) + every[1:], (0,) * size]
+    kinds = [list(every), list(every[::-1]), {each: each for each in every}, (every,), "".join(map(str, every))]
+    truths = [(False,) + every[1:], (False, True) + every[2:], every[:1] + (True,) + every[2:]]
+    return whatever() + in_tuples() + lacking + twice + beyond + kinds + truths
+
+
+def square(size, number):
+    return ((number,) * size,) * size
+
+
+def all_mark_tables(size):
+    """All tables of 0 and 1 alone of a size."""
+    rows = list(itertools.product((0, 1), repeat=size))
+    return list(itertools.product(rows, repeat=size))
+
+
+class Numbers:
+    """Numbers that look drawn, but are the same in each run."""
+
+    def __init__(self, seed):
+        self.state = seed
+
+    def below(self, many):
+        self.state = (self.state * 6364136223846793005 + 1442695040888963407) % 2 ** 64
+        return (self.state >> 33) % many
+
+    def table(self, size, noughts=2, most=9):
+        """A table of a size, noughts of five numbers being 0."""
+        return tuple([
+            tuple([0 if self.below(5) < noughts else 1 + self.below(most) for place in range(size)])
+            for row in range(size)
+        ])
+
+    def tables(self, many):
+        """So many tables of each size from 1 to 6, some with few noughts, some with many."""
+        return [self.table(size, noughts) for size in range(1, 7) for at in range(many) for noughts in (1, 2, 3, 4)]
+
+
+def sets_of(size):
+    """All rising tuples of places."""
+    return [some for many in range(size + 1) for some in itertools.combinations(range(size), many)]
