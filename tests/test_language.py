@@ -1,4 +1,4 @@
-"""The package keeps to its part of Python: what can be told from the written rows."""
+"""The package keeps to its part of Python: some of the rules, as far as the written rows tell."""
 
 import ast
 import builtins
