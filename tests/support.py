@@ -161,6 +161,11 @@ class Numbers:
         self.state = (self.state * 6364136223846793005 + 1442695040888963407) % 2 ** 64
         return (self.state >> 33) % many
 
+    def mixed(self, things):
+        """The same things in another order."""
+        left = list(things)
+        return [left.pop(self.below(len(left))) for thing in things]
+
     def table(self, size, noughts=2, most=9):
         """A table of a size, noughts of five numbers being 0."""
         return tuple([
@@ -176,3 +181,104 @@ class Numbers:
 def sets_of(size):
     """All rising tuples of places."""
     return [some for many in range(size + 1) for some in itertools.combinations(range(size), many)]
+
+
+def table_of(size, arrows):
+    """The table of 0 and 1 with these arrows, pairs of places."""
+    return tuple([tuple([int((i, j) in arrows) for j in range(size)]) for i in range(size)])
+
+
+def times(one, other):
+    """The marks of the product of two tables of one size."""
+    size = range(len(one))
+    return tuple([tuple([int(any(one[i][k] and other[k][j] for k in size)) for j in size]) for i in size])
+
+
+def scarce_tables(seed, again):
+    """Tables of four to six places with few arrows, so that there are many pieces."""
+    numbers = Numbers(seed)
+    return [
+        table_of(size, {(numbers.below(size), numbers.below(size)) for at in range(arrows)})
+        for size in (4, 5, 6) for arrows in range(1, 9) for at in range(again)
+    ]
+
+
+def turning_table(numbers, size, d, noughts):
+    """A table whose arrows all go on by one of d rests, and the rests; noughts of five arrows are lacking."""
+    rests = [numbers.below(d) for place in range(size)]
+    if numbers.below(3) > 0:
+        # Each rest that there can be a place for has one, so that most of these tables are joined.
+        rests = numbers.mixed([place % d for place in range(size)])
+    table = tuple([
+        tuple([
+            1 + numbers.below(9) if (rests[i] + 1 - rests[j]) % d == 0 and numbers.below(5) >= noughts else 0
+            for j in range(size)
+        ])
+        for i in range(size)
+    ])
+    return table, tuple(rests)
+
+
+def turning_tables(seed, again):
+    """Tables of one to six places that have turns of each d from 1 to 6."""
+    numbers = Numbers(seed)
+    return [
+        turning_table(numbers, size, d, noughts)[0]
+        for size in range(1, 7) for d in range(1, 7) for noughts in (0, 1, 2) for at in range(again)
+    ]
+
+
+def round_table(size):
+    """The table in which an arrow goes from each place to the next one, and from the last one to 0."""
+    return table_of(size, {(place, (place + 1) % size) for place in range(size)})
+
+
+def slow_table(size):
+    """The table of a size whose first power comes last: a round, and an arrow more from the last place to 1."""
+    return table_of(size, {(place, place + 1) for place in range(size - 1)} | {(size - 1, 0), (size - 1, 1)})
+
+
+def shuffled(numbers, table):
+    """The table with its places named otherwise."""
+    names = numbers.mixed(range(len(table)))
+    return tuple([tuple([table[i][j] for j in names]) for i in names])
+
+
+def tables_of_all_sorts(seed, again):
+    """All tables of marks with up to three places, and of each size full ones, scarce ones, slow and turning ones."""
+    numbers = Numbers(seed)
+    told = [table for size in (1, 2, 3) for table in all_mark_tables(size)]
+    told += numbers.tables(again) + scarce_tables(seed + 1, again) + turning_tables(seed + 2, again)
+    for size in range(1, 7):
+        told += [square(size, 0), square(size, 3), round_table(size)]
+        if size > 1:
+            told += [slow_table(size), shuffled(numbers, slow_table(size))]
+    return told
+
+
+def come_to(table, place):
+    """All places that walks from a place lead to, gone one by one."""
+    told = [place]
+    for each in told:
+        told += [head for head in range(len(table)) if table[each][head] and head not in told]
+    return set(told)
+
+
+def is_joined(table):
+    return all(len(come_to(table, place)) == len(table) for place in range(len(table)))
+
+
+def marks_wanted(table):
+    return tuple([tuple([int(number > 0) for number in row]) for row in table])
+
+
+def first_wanted(table):
+    """The first power without a nought, by products one by one until one comes again; None where there is none."""
+    seen = []
+    now = marks_wanted(table)
+    while now not in seen:
+        seen.append(now)
+        if all(all(row) for row in now):
+            return len(seen)
+        now = times(now, table)
+    return None

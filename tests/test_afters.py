@@ -2,7 +2,7 @@ import unittest
 
 from firstpowers.afters import set_after
 from firstpowers.errors import NoNumber, NoSet, NoTable
-from tests.support import Case, Numbers, all_mark_tables, no_numbers, no_sets, no_tables, sets_of, square
+from tests.support import Case, Numbers, all_mark_tables, no_numbers, no_sets, no_tables, sets_of, square, times
 
 MOST = 10 ** 9
 ROUND = ((0, 1, 0), (0, 0, 1), (1, 0, 0))
@@ -15,11 +15,6 @@ TWO_ROUNDS = (
 
 def step(table, some):
     return tuple([head for head in range(len(table)) if any(table[place][head] for place in some)])
-
-
-def times(one, other):
-    size = range(len(one))
-    return tuple([tuple([int(any(one[i][k] and other[k][j] for k in size)) for j in size]) for i in size])
 
 
 def after_by_squares(table, some, k):

@@ -3,24 +3,14 @@ import unittest
 
 from firstpowers.errors import NoSet, NoTable
 from firstpowers.pieces import joined, ladder, part, pieces
-from tests.support import Case, Numbers, all_mark_tables, no_sets, no_tables, sets_of, square
+from tests.support import (
+    Case, Numbers, all_mark_tables, come_to, no_sets, no_tables, scarce_tables, sets_of, square, table_of,
+)
 
 EMPTY = ((0, 0, 0), (0, 0, 0), (0, 0, 0))
 ROUND = ((0, 1, 0), (0, 0, 1), (1, 0, 0))
 # From 2 an arrow goes to 0; place 1 stands alone, and is less than 2.
 LATE = ((0, 0, 0), (0, 0, 0), (1, 0, 0))
-
-
-def table_of(size, arrows):
-    return tuple([tuple([int((i, j) in arrows) for j in range(size)]) for i in range(size)])
-
-
-def come_to(table, place):
-    """All places that walks from a place lead to, gone one by one."""
-    told = [place]
-    for each in told:
-        told += [head for head in range(len(table)) if table[each][head] and head not in told]
-    return set(told)
 
 
 def pieces_wanted(table):
@@ -50,15 +40,6 @@ def many_tables():
     return told + Numbers(41).tables(12) + [square(6, 0), square(6, 1)]
 
 
-def scarce_tables():
-    """Tables of four to six places with few arrows, so that there are many pieces."""
-    numbers = Numbers(42)
-    return [
-        table_of(size, {(numbers.below(size), numbers.below(size)) for at in range(arrows)})
-        for size in (4, 5, 6) for arrows in range(1, 9) for again in range(6)
-    ]
-
-
 class Pieces(Case):
     def test_one_piece(self):
         self.tells([(0, 1, 2)], pieces, ROUND)
@@ -83,7 +64,7 @@ class Pieces(Case):
         self.tells([(0, 1, 2, 3, 4, 5)], pieces, table_of(6, {(0, 4), (4, 2), (2, 5), (5, 1), (1, 3), (3, 0)}))
 
     def test_many(self):
-        for table in many_tables() + scarce_tables():
+        for table in many_tables() + scarce_tables(42, 6):
             self.tells(pieces_wanted(table), pieces, table)
 
     def test_lists_are_the_asker_s_own(self):
@@ -112,7 +93,7 @@ class Joined(Case):
         self.tells(False, joined, ((1, 0), (1, 1)))
 
     def test_many(self):
-        for table in many_tables() + scarce_tables():
+        for table in many_tables() + scarce_tables(42, 6):
             self.tells(len(pieces_wanted(table)) == 1, joined, table)
 
     def test_no_table(self):
@@ -140,7 +121,7 @@ class Ladder(Case):
         self.tells([(1, 2), (0, 3)], ladder, table_of(4, {(1, 2), (2, 1), (0, 3), (3, 0), (2, 3)}))
 
     def test_many(self):
-        for table in many_tables() + scarce_tables():
+        for table in many_tables() + scarce_tables(42, 6):
             self.tells(ladder_wanted(table), ladder, table)
 
     def test_lists_are_the_asker_s_own(self):
