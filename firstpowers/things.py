@@ -16,6 +16,11 @@ def is_within(thing, least, most):
     return is_whole(thing) and least <= thing <= most
 
 
+def is_from(thing, least):
+    """Tell whether a thing is a whole number from least on."""
+    return is_whole(thing) and thing >= least
+
+
 def is_place(thing, size):
     """Tell whether a thing is a place of the tables of a size."""
     return is_within(thing, 0, size - 1)
