@@ -2,6 +2,7 @@
 
 from firstpowers.afters import set_after, step_after
 from firstpowers.comings import all_marks, marks_of
+from firstpowers.errors import Apart
 from firstpowers.tables import full
 from firstpowers.things import is_from, is_place, is_set, want_table
 from firstpowers.walks import first_walk, has_walk_form
@@ -13,6 +14,12 @@ def first_power(table):
         if full(each):
             return at + 1
     return None
+
+
+def want_first_power(table):
+    """Refuse a table that has no first power."""
+    if first_power(table) is None:
+        raise Apart("a table with a first power is wanted")
 
 
 def is_walk_between(table, thing, one, other, k):

@@ -59,6 +59,15 @@ class Case(unittest.TestCase):
             else:
                 self.fail(f"{deed.__name__}{things}{named or ''}: {answer!r}, not {kind}")
 
+    def bears(self, kind, fields, deed, *things, **named):
+        """The refusal is of this very class and has just these fields, and so again."""
+        self.refuses(kind, deed, *things, **named)
+        try:
+            self.ask(deed, *things, **named)
+        except kind as refusal:
+            if not alike(fields, vars(refusal)):
+                self.fail(f"{deed.__name__}{things}{named or ''}: {vars(refusal)}, not {fields}")
+
 
 def deep(bottom, many, wrap):
     for at in range(many):
@@ -282,3 +291,36 @@ def first_wanted(table):
             return len(seen)
         now = times(now, table)
     return None
+
+
+def with_first(tables):
+    """Those of the tables that have a first power."""
+    return [table for table in tables if first_wanted(table) is not None]
+
+
+def without_first(tables):
+    """Those of the tables that have no first power."""
+    return [table for table in tables if first_wanted(table) is None]
+
+
+def marks_one_by_one(table, many):
+    """The marks of the powers from 1 on, multiplied one by one."""
+    told = [marks_wanted(table)]
+    while len(told) < many:
+        told.append(times(told[-1], table))
+    return told
+
+
+def marks_until_again(table):
+    """The marks of the powers from 1 on, multiplied one by one until some come again."""
+    told = [marks_wanted(table)]
+    while times(told[-1], table) not in told:
+        told.append(times(told[-1], table))
+    return told
+
+
+def renamed_wanted(table, order):
+    """The table whose number at order[i] and order[j] is the table's at i and j."""
+    places = {(order[i], order[j]): number for i, row in enumerate(table) for j, number in enumerate(row)}
+    size = range(len(table))
+    return tuple([tuple([places[i, j] for j in size]) for i in size])

@@ -4,8 +4,8 @@ from firstpowers.comings import all_marks, ever_full, marks_of, round_of, same_m
 from firstpowers.errors import NoNumber, NoTable
 from firstpowers.firsts import first_power
 from tests.support import (
-    Case, Numbers, all_mark_tables, first_wanted, marks_wanted, no_numbers, no_tables, round_table, slow_table,
-    square, table_of, tables_of_all_sorts, times,
+    Case, Numbers, all_mark_tables, first_wanted, marks_one_by_one, marks_wanted, no_numbers, no_tables, round_table,
+    slow_table, square, table_of, tables_of_all_sorts, times,
 )
 
 MOST = 10 ** 30
@@ -13,14 +13,6 @@ MOST = 10 ** 30
 TWO_ROUNDS = table_of(6, {(0, 1), (1, 0), (2, 3), (3, 4), (4, 2), (5, 0)})
 # Two steps lead from 0 to 2, and none further.
 PATH = table_of(3, {(0, 1), (1, 2)})
-
-
-def marks_one_by_one(table, many):
-    """The marks of the powers from 1 on, multiplied one by one."""
-    told = [marks_wanted(table)]
-    while len(told) < many:
-        told.append(times(told[-1], table))
-    return told
 
 
 def marks_by_squares(table, k):

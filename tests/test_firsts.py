@@ -8,7 +8,7 @@ from firstpowers.powers import power
 from firstpowers.tables import full
 from tests.support import (
     Case, Numbers, all_mark_tables, first_wanted, in_tuples, no_places, no_sets, no_tables, round_table, sets_of,
-    shuffled, slow_table, square, table_of, tables_of_all_sorts, whatever,
+    shuffled, slow_table, square, table_of, tables_of_all_sorts, whatever, with_first,
 )
 
 FIBONACCI = ((0, 5), (6, 7))
@@ -85,10 +85,6 @@ def put(row, at, thing):
 
 def put_walk(walks, one, other, thing):
     return put(walks, one, put(walks[one], other, thing))
-
-
-def with_first(tables):
-    return [table for table in tables if first_wanted(table) is not None]
 
 
 def many_tables(seed):
