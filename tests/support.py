@@ -281,13 +281,17 @@ def marks_wanted(table):
     return tuple([tuple([int(number > 0) for number in row]) for row in table])
 
 
+def is_full(table):
+    return all(all(row) for row in table)
+
+
 def first_wanted(table):
     """The first power without a nought, by products one by one until one comes again; None where there is none."""
     seen = []
     now = marks_wanted(table)
     while now not in seen:
         seen.append(now)
-        if all(all(row) for row in now):
+        if is_full(now):
             return len(seen)
         now = times(now, table)
     return None
@@ -324,3 +328,67 @@ def renamed_wanted(table, order):
     places = {(order[i], order[j]): number for i, row in enumerate(table) for j, number in enumerate(row)}
     size = range(len(table))
     return tuple([tuple([places[i, j] for j in size]) for i in size])
+
+
+def table_of_bits(bits, size=3):
+    """The table of 0 and 1 that a number writes by its bits, row after row."""
+    signs = bin(bits)[2:].zfill(size * size)
+    return tuple([tuple(map(int, signs[at:at + size])) for at in range(0, size * size, size)])
+
+
+# The longest of the shortest full ways, the longest ways with a nought, and the most products, of all lists.
+LATE_FULL = [table_of_bits(bits) for bits in (21, 140, 276)]
+LATE_ALL = [table_of_bits(bits) for bits in (79, 99, 413)]
+MANY_PRODUCTS = [table_of_bits(bits) for bits in (10, 85, 98)]
+
+
+def several_tables(seed, again):
+    """Lists of one to three tables of one size from 1 to 3, of all sorts."""
+    numbers = Numbers(seed)
+    told = [[table] for size in (1, 2, 3) for table in all_mark_tables(size)[::1 if size < 3 else 5]]
+    told += [list(pair) for pair in itertools.product(all_mark_tables(1), repeat=2)]
+    told += [list(pair) for pair in itertools.product(all_mark_tables(2), repeat=2)][::3]
+    told += [[numbers.table(size, noughts) for at in range(many)]
+             for size in (1, 2, 3) for noughts in (0, 1, 2, 3, 4) for many in (2, 3) for more in range(again)]
+    # Orders of the places, and one table more: many products, and long ways.
+    for order in itertools.permutations(range(3)):
+        turning = table_of(3, set(enumerate(order)))
+        told += [[turning, numbers.table(3, noughts)] for noughts in (2, 3, 4)]
+    return told + [list(LATE_FULL), list(LATE_ALL), list(MANY_PRODUCTS), LATE_FULL[::-1], LATE_ALL[1:]]
+
+
+def product_wanted(tables, way):
+    """The marks of the product along a way, the numbers themselves multiplied one by one."""
+    size = range(len(tables[0]))
+    now = tables[way[0]]
+    for at in way[1:]:
+        other = tables[at]
+        now = tuple([tuple([sum([now[i][k] * other[k][j] for k in size]) for j in size]) for i in size])
+    return marks_wanted(now)
+
+
+def products_by_length(tables):
+    """For each length from 1 on the set of the marks of all products of so many places, until a set comes again."""
+    marked = [marks_wanted(table) for table in tables]
+    told = [frozenset(marked)]
+    while True:
+        later = frozenset([times(each, table) for each in told[-1] for table in marked])
+        if later in told:
+            return told
+        told.append(later)
+
+
+def wrong_tables():
+    """Things that are no list of one to three tables of one size from 1 to 3, and the place that is told of each."""
+    one, two, three = ((1,),), ((0, 1), (1, 1)), square(3, 1)
+    told = [(thing, -1) for thing in no_tables() if not isinstance(thing, list)]
+    told += [(thing, -1) for thing in (
+        [], (), (two,), (two, two), (two, two, two), two, three, {0: two}, [two] * 4, [two] * 5, [None] * 4, [0] * 7,
+        [one, two, three, two], (None,), "", "0 1/1 1", True, [[]] * 4,
+    )]
+    great = [square(size, number) for size in (4, 5, 6) for number in (0, 1)]
+    for thing in no_tables() + great:
+        told += [([thing], 0), ([two, thing], 1), ([two, two, thing], 2), ([two, thing, two], 1), ([thing, two], 0)]
+    for first, other in itertools.permutations((one, two, three), 2):
+        told += [([first, other], 1), ([first, first, other], 2), ([first, other, other], 1), ([first, other, None], 1)]
+    return told + [([None, None], 0), ([two, None, ()], 1), ([square(4, 1), square(4, 1)], 0), ([[two]], 0)]

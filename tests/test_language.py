@@ -36,6 +36,13 @@ NO_NODES = (
     ast.AsyncWith, ast.Await, ast.NamedExpr, ast.GeneratorExp, ast.Div, ast.MatMult, ast.Import,
 )
 
+KEYWORDS = {
+    "sorted": {"key", "reverse"}, "min": {"key", "default"}, "max": {"key", "default"}, "sum": {"start"},
+    "enumerate": {"start"}, "zip": {"strict"},
+}
+WALKED_AT_ONCE = {"zip", "enumerate", "reversed", "range", "items", "keys", "values"}
+WALKERS = {"list", "tuple", "dict", "sorted", "sum", "any", "all", "enumerate", "zip", "bytes", "min", "max"}
+
 
 def read(file):
     return file.read_text(encoding="utf-8")
@@ -43,6 +50,52 @@ def read(file):
 
 def nodes(file):
     return ast.walk(ast.parse(read(file)))
+
+
+def with_above(file):
+    """Each node of a file, with the one above it."""
+    for above in nodes(file):
+        for node in ast.iter_child_nodes(above):
+            yield node, above
+
+
+def called(node):
+    """The name of what a node calls, be it a method's; None where it calls nothing by a name."""
+    if isinstance(node, ast.Call):
+        return getattr(node.func, "id", getattr(node.func, "attr", None))
+    return None
+
+
+def own_defs():
+    """The defs of all files' tops, by their names in their files."""
+    return {
+        (file.stem, row.name): row for file in FILES for row in ast.parse(read(file)).body
+        if isinstance(row, ast.FunctionDef)
+    }
+
+
+def defs_in_reach(file):
+    """The defs that a file has or draws in, by their names."""
+    told = {name: row for (stem, name), row in own_defs().items() if stem == file.stem}
+    for row in nodes(file):
+        if isinstance(row, ast.ImportFrom):
+            for name in row.names:
+                if (row.module.split(".")[-1], name.name) in own_defs():
+                    told[name.name] = own_defs()[row.module.split(".")[-1], name.name]
+    return told
+
+
+def is_plain(node, names):
+    """Whether a value of a file's top is plain: numbers, texts, and tuples, lists and dicts of these and of defs."""
+    if isinstance(node, ast.Dict):
+        return all(isinstance(key, ast.Constant) and is_plain(value, names)
+                   for key, value in zip(node.keys, node.values)) and not any(
+                       isinstance(value, (ast.Dict, ast.List)) for value in node.values)
+    if isinstance(node, (ast.Tuple, ast.List)):
+        return all(is_plain(each, names) for each in node.elts)
+    if isinstance(node, ast.BinOp):
+        return is_plain(node.left, names) and is_plain(node.right, names)
+    return isinstance(node, ast.Constant) or isinstance(node, ast.Name) and node.id in names
 
 
 def top_names(file):
@@ -195,6 +248,112 @@ class Language(unittest.TestCase):
                 for node in nodes(file):
                     if isinstance(node, ast.Call) and isinstance(node.func, ast.Attribute):
                         self.assertIn(node.func.attr, METHODS | own)
+
+    def test_values_of_the_top_are_plain(self):
+        for file in FILES:
+            with self.subTest(file=file.name):
+                above = []
+                for row in ast.parse(read(file)).body:
+                    if isinstance(row, ast.FunctionDef):
+                        above.append(row.name)
+                    elif isinstance(row, ast.Assign):
+                        self.assertTrue(is_plain(row.value, above), ast.unparse(row))
+
+    def test_lists_and_dicts_of_the_top_are_only_read(self):
+        for file in FILES:
+            kept = {
+                row.targets[0].id for row in ast.parse(read(file)).body
+                if isinstance(row, ast.Assign) and isinstance(row.value, (ast.Dict, ast.List))
+            }
+            with self.subTest(file=file.name):
+                for node, above in with_above(file):
+                    if isinstance(node, ast.Name) and node.id in kept and isinstance(node.ctx, ast.Load):
+                        asked = isinstance(above, ast.Subscript) and isinstance(above.ctx, ast.Load)
+                        self.assertTrue(asked or isinstance(above, ast.Compare), ast.unparse(above))
+
+    def test_keywords(self):
+        for file in FILES:
+            with self.subTest(file=file.name):
+                for node in nodes(file):
+                    if isinstance(node, ast.Call) and node.keywords:
+                        names = {keyword.arg for keyword in node.keywords}
+                        self.assertLessEqual(names, KEYWORDS.get(called(node), set()), ast.unparse(node))
+
+    def test_own_defs_are_handed_what_they_take(self):
+        for file in FILES:
+            reach = defs_in_reach(file)
+            with self.subTest(file=file.name):
+                for node in nodes(file):
+                    if isinstance(node, ast.Call) and isinstance(node.func, ast.Name) and node.func.id in reach:
+                        takes = reach[node.func.id].args
+                        self.assertEqual(len(node.args), len(takes.args), ast.unparse(node))
+                        self.assertEqual(takes.defaults, [])
+
+    def test_what_is_walked_at_once(self):
+        for file in FILES:
+            with self.subTest(file=file.name):
+                for node, above in with_above(file):
+                    if called(node) in WALKED_AT_ONCE:
+                        walked = isinstance(above, (ast.For, ast.comprehension)) and above.iter == node
+                        first = called(above) in WALKERS and above.args[0] == node
+                        counted = called(node) == "range" and called(above) == "reversed"
+                        self.assertTrue(walked or first or counted, ast.unparse(above))
+
+    def test_sets_are_not_kept(self):
+        for file in FILES:
+            with self.subTest(file=file.name):
+                for node, above in with_above(file):
+                    if called(node) == "set" or isinstance(node, (ast.Set, ast.SetComp)):
+                        self.assertTrue(called(above) in ("sorted", "len") and not above.keywords, ast.unparse(above))
+
+    def test_exponents_are_written(self):
+        for file in FILES:
+            with self.subTest(file=file.name):
+                for node in nodes(file):
+                    if isinstance(node, ast.BinOp) and isinstance(node.op, ast.Pow):
+                        self.assertIsInstance(node.right, ast.Constant)
+                        self.assertIn(node.right.value, range(65))
+
+    def test_no_annotations(self):
+        for file in FILES:
+            with self.subTest(file=file.name):
+                for node in nodes(file):
+                    self.assertNotIsInstance(node, ast.AnnAssign)
+                    if isinstance(node, ast.FunctionDef):
+                        self.assertIsNone(node.returns)
+                    if isinstance(node, ast.arg):
+                        self.assertIsNone(node.annotation)
+
+    def test_no_name_is_both_a_method_and_a_value(self):
+        methods, values, asked = set(), set(), set()
+        for file in FILES:
+            for node, above in with_above(file):
+                if isinstance(node, ast.FunctionDef) and isinstance(above, ast.ClassDef):
+                    methods.add(node.name)
+                elif isinstance(node, ast.Attribute) and isinstance(node.ctx, ast.Store):
+                    values.add(node.attr)
+                elif isinstance(node, ast.Attribute) and not (isinstance(above, ast.Call) and above.func == node):
+                    asked.add(node.attr)
+        self.assertEqual(methods & values, set())
+        self.assertLessEqual(asked, values)
+        for name in (methods | values) - DUNDERS:
+            for kind in (str, int, list, dict, set, bytes, tuple):
+                self.assertFalse(hasattr(kind, name), name)
+
+    def test_what_a_loop_walks_is_not_changed_in_it(self):
+        for file in FILES:
+            with self.subTest(file=file.name):
+                for loop in nodes(file):
+                    if isinstance(loop, ast.For):
+                        walked = {node.id for node in ast.walk(loop.iter) if isinstance(node, ast.Name)}
+                        for node in [node for row in loop.body for node in ast.walk(row)]:
+                            if isinstance(node, ast.Call) and isinstance(node.func, ast.Attribute):
+                                target = node.func.value
+                                changes = node.func.attr in ("append", "extend", "pop", "remove", "clear", "insert")
+                                self.assertFalse(changes and isinstance(target, ast.Name) and target.id in walked)
+                            if isinstance(node, ast.Subscript) and not isinstance(node.ctx, ast.Load):
+                                target = node.value
+                                self.assertFalse(isinstance(target, ast.Name) and target.id in walked)
 
 
 if __name__ == "__main__":
